@@ -37,7 +37,7 @@ func TestIs(t *testing.T) {
 	}
 	r := rand.New(rand.NewSource(1))
 	for range 2000 {
-		n := r.Uint64() >> uint(1+r.Intn(40)) | 1
+		n := r.Uint64()>>uint(1+r.Intn(40)) | 1
 		if Is(n) != new(big.Int).SetUint64(n).ProbablyPrime(20) {
 			t.Fatal(n)
 		}
