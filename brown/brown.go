@@ -7,6 +7,7 @@ import (
 	"algebrist/api"
 	"algebrist/euclid"
 	"algebrist/frac"
+	"algebrist/lehmer"
 	"algebrist/mono"
 	"algebrist/mpoly"
 	"algebrist/qpoly"
@@ -184,7 +185,7 @@ func unpack(n int, vars []int, l []term) api.MPoly {
 func primitive(l []term) []term {
 	var g api.Int
 	for _, t := range l {
-		g = euclid.Gcd(g, t.c).G
+		g = lehmer.GcdInt(g, t.c)
 	}
 	out := make([]term, len(l))
 	for i, t := range l {

@@ -4,7 +4,7 @@ import (
 	"slices"
 
 	"algebrist/api"
-	"algebrist/euclid"
+	"algebrist/lehmer"
 	"algebrist/modp"
 	"algebrist/prime"
 	"algebrist/whole"
@@ -12,7 +12,7 @@ import (
 
 // byPrimes is the gcd of two primitive polynomials in n variables, put together of images till it divides both.
 func byPrimes(a, b []term, n int) []term {
-	lead := euclid.Gcd(a[0].c, b[0].c).G
+	lead := lehmer.GcdInt(a[0].c, b[0].c)
 	var sum []term
 	all := whole.Of(1)
 	var seed uint64

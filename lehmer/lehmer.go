@@ -1,7 +1,11 @@
 // Package lehmer has what makes the gcd of long numbers quick: many of Euclid's steps at once, guessed of the numbers' first words.
 package lehmer
 
-import "math/bits"
+import (
+	"math/bits"
+
+	"algebrist/api"
+)
 
 // Steps are some of Euclid's steps in one: of a and b come u0 a + v0 b and u1 a + v1 b, where, if Even, U1 and V0 are turned, else U0 and V1.
 type Steps struct {
@@ -36,6 +40,9 @@ func Gcd(a, b []uint32) []uint32 {
 	}
 	return unpack([]uint64{small(y[0], restWord(x, y[0]))})
 }
+
+// GcdInt is that of whole numbers: from 0 on.
+func GcdInt(a, b api.Int) api.Int { return api.Int{Mag: Gcd(a.Mag, b.Mag)} }
 
 // guess goes on as long as Collins' condition says that the quotients of the first words are those of the whole numbers.
 func guess(a, b []uint64) Steps {
