@@ -219,3 +219,21 @@ func TestHolds(t *testing.T) {
 		t.Error("another ideal")
 	}
 }
+
+// Numbers stay short where many polynomials in one variable are given.
+func TestManyInOneVariable(t *testing.T) {
+	r := rand.New(rand.NewSource(4))
+	for range 20 {
+		var l []api.MPoly
+		for range 8 {
+			f := api.MPoly{N: 1}
+			for i := range 9 {
+				f = mpoly.Add(f, api.MPoly{N: 1, T: []api.Term{{E: []int{i}, C: rat(1+r.Intn(1000000), 1+r.Intn(3))}}})
+			}
+			l = append(l, f)
+		}
+		if b, e := Make(l, api.Order{}); e != api.OK || !Holds(l, api.Order{}, b) {
+			t.Fatal(e)
+		}
+	}
+}
