@@ -3,6 +3,7 @@ package qpoly
 import (
 	"algebrist/api"
 	"algebrist/frac"
+	"algebrist/powers"
 	"algebrist/whole"
 	"algebrist/zpoly"
 )
@@ -36,8 +37,8 @@ func remainders(a, b api.ZPoly) (r, u api.ZPoly) {
 	for len(y) > 0 {
 		gap := len(x) - len(y)
 		q, left, k, _ := zpoly.Pseudo(x, y)
-		cut := whole.Mul(lead, power(height, gap))
-		up := power(zpoly.Lead(y), k)
+		cut := whole.Mul(lead, powers.Of(height, gap))
+		up := powers.Of(zpoly.Lead(y), k)
 		next := zpoly.Sub(zpoly.Scale(u, up), zpoly.Mul(q, v))
 		x, y = y, divided(left, cut)
 		if len(y) > 0 {
@@ -46,7 +47,7 @@ func remainders(a, b api.ZPoly) (r, u api.ZPoly) {
 		u, v = v, next
 		lead = zpoly.Lead(x)
 		if gap > 0 {
-			height, _ = whole.Exact(power(lead, gap), power(height, gap-1))
+			height, _ = whole.Exact(powers.Of(lead, gap), powers.Of(height, gap-1))
 		}
 	}
 	return x, u
@@ -55,14 +56,6 @@ func remainders(a, b api.ZPoly) (r, u api.ZPoly) {
 func divided(f api.ZPoly, c api.Int) api.ZPoly {
 	q, _ := zpoly.Exact(f, zpoly.Const(c))
 	return q
-}
-
-func power(a api.Int, n int) api.Int {
-	out := whole.Of(1)
-	for range n {
-		out = whole.Mul(out, a)
-	}
-	return out
 }
 
 // HoldsGcd says whether it is a gcd, with its polynomials.

@@ -3,6 +3,7 @@ package signs
 
 import (
 	"algebrist/api"
+	"algebrist/frac"
 	"algebrist/whole"
 )
 
@@ -17,4 +18,12 @@ func At(f api.ZPoly, a api.Rat) int {
 		}
 	}
 	return whole.Sign(sum)
+}
+
+// Has says whether f, that has at most one root in an interval, once, and at its ends none, has one there; of a point whether that is one.
+func Has(f api.ZPoly, x api.Interval) bool {
+	if frac.Same(x.Lo, x.Hi) {
+		return At(f, x.Lo) == 0
+	}
+	return At(f, x.Lo) != At(f, x.Hi)
 }
