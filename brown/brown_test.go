@@ -94,3 +94,24 @@ func TestGreat(t *testing.T) {
 		}
 	}
 }
+
+// Primes that tell too much, or nothing.
+func TestBadPrimes(t *testing.T) {
+	first := int(next(1 << 30))
+	second := int(next(uint32(first)))
+	x, y := mpoly.Var(2, 0), mpoly.Var(2, 1)
+	number := func(n int) api.MPoly { return mpoly.Const(2, frac.Whole(whole.Of(n))) }
+	times := func(f, g api.MPoly) api.MPoly { p, _ := mpoly.Mul(f, g); return p }
+	h := mpoly.Add(times(x, y), mpoly.Add(times(number(7), y), number(1)))
+	great := mpoly.Add(times(number(first), times(x, y)), number(3))
+	long := mpoly.Add(h, times(number(first), times(number(first), number(first))))
+	for i, c := range []struct{ a, b, h api.MPoly }{
+		{mpoly.Add(x, y), mpoly.Add(mpoly.Add(x, y), number(first)), h}, {mpoly.Add(x, y), mpoly.Add(mpoly.Add(x, y), number(second)), h},
+		{mpoly.Add(x, y), mpoly.Sub(x, y), great}, {mpoly.Add(x, y), mpoly.Sub(x, y), long}, {mpoly.Add(x, y), mpoly.Add(mpoly.Add(x, y), number(second)), long},
+	} {
+		d := Gcd(times(c.a, c.h), times(c.b, c.h))
+		if !mpoly.Same(d, mpoly.Monic(c.h, api.Order{Kind: api.Lex})) {
+			t.Error(i, d)
+		}
+	}
+}

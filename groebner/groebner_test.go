@@ -237,3 +237,37 @@ func TestManyInOneVariable(t *testing.T) {
 		}
 	}
 }
+
+// ErrRange may be told where exponents are great; all else is empty then.
+func TestGreatExponents(t *testing.T) {
+	lex := api.Order{Kind: api.Lex}
+	told := 0
+	for i, l := range [][]api.MPoly{
+		{poly(3, []int{1, 3, 0, 0}, []int{1, 0, 1, 1}, []int{-3, 0, 0, 0}), poly(3, []int{1, 0, 3, 0}, []int{1, 1, 0, 1}, []int{-5, 0, 0, 0}), poly(3, []int{1, 0, 0, 3}, []int{1, 1, 1, 0}, []int{-7, 0, 0, 0})},
+		{poly(2, []int{1, 60, 0}, []int{-1, 0, 1}), poly(2, []int{1, 1, 60}, []int{-1, 0, 0})},
+		{poly(2, []int{1, 2, 0}, []int{-1, 0, 31}), poly(2, []int{1, 1, 2}, []int{-1, 0, 0})},
+		{poly(2, []int{1, 31, 0}, []int{1, 0, 31}, []int{1, 0, 0}), poly(2, []int{1, 30, 1}, []int{1, 1, 30}, []int{2, 0, 0})},
+		{poly(1, []int{1, 60}, []int{1, 0}), poly(1, []int{1, 59}, []int{3, 1})},
+	} {
+		for _, o := range []api.Order{lex, {Kind: api.GrevLex}} {
+			b, e := Make(l, o)
+			switch {
+			case e == api.ErrRange:
+				told++
+				if len(b.G)+len(b.A)+len(b.B) != 0 {
+					t.Error(i)
+				}
+			case e != api.OK || !Holds(l, o, b):
+				t.Error(i, e)
+			}
+		}
+	}
+	if told == 0 {
+		t.Error("none told")
+	}
+	// A cofactor that is right, but for an exponent above 60 in a product.
+	x60, _ := mpoly.Pow(mpoly.Var(1, 0), 60)
+	if sumsTo([]api.MPoly{{N: 1}}, [][]api.MPoly{{x60, mpoly.Neg(x60)}}, []api.MPoly{x60, x60}) {
+		t.Error("above 60")
+	}
+}

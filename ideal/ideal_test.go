@@ -289,3 +289,54 @@ func TestCommonZero(t *testing.T) {
 		}
 	}
 }
+
+// ErrRange may be told where exponents are great, or all six variables are there; all else is empty then.
+func TestRange(t *testing.T) {
+	pow := func(n, i, k int) api.MPoly { f, _ := mpoly.Pow(mpoly.Var(n, i), k); return f }
+	far, six := pow(2, 0, 40), mpoly.Var(6, 0)
+	wild := []api.MPoly{mpoly.Sub(pow(2, 0, 60), mpoly.Var(2, 1)), mpoly.Sub(poly(2, []int{1, 1, 60}), one(2))}
+	check := func(what string, l []api.MPoly, e api.Errno) {
+		t.Helper()
+		if e != api.OK && e != api.ErrRange || e != api.OK && len(l) != 0 {
+			t.Error(what, e, l)
+		}
+	}
+	l, e := Product([]api.MPoly{far}, []api.MPoly{far})
+	check("product", l, e)
+	if e != api.ErrRange {
+		t.Error("x^80")
+	}
+	l, e = Meet([]api.MPoly{six}, []api.MPoly{mpoly.Var(6, 1)})
+	check("meet", l, e)
+	l, e = Quotient([]api.MPoly{six}, mpoly.Var(6, 1))
+	check("quotient", l, e)
+	if ok, e := Radical(mpoly.Var(6, 1), []api.MPoly{six}); e != api.OK && e != api.ErrRange || ok {
+		t.Error("radical", e)
+	}
+	if ok, e := Radical(six, []api.MPoly{six}); e != api.OK || !ok {
+		t.Error("radical of what is in", e)
+	}
+	for k := range 3 {
+		l, e = Eliminate(wild, k)
+		check("eliminate", l, e)
+	}
+	l, e = Sum(wild, nil)
+	check("sum", l, e)
+	l, ok, e := In(far, wild)
+	check("in", l, e)
+	if e != api.OK && ok {
+		t.Error("in")
+	}
+	l, _, e = One(wild)
+	check("one", l, e)
+	if ok, e := Equal(wild, wild); e != api.OK && ok {
+		t.Error("equal")
+	}
+	if ok, e := Radical(pow(2, 0, 60), wild); e != api.OK && ok {
+		t.Error("radical")
+	}
+	l, e = Meet(wild, []api.MPoly{far})
+	check("meet", l, e)
+	l, e = Quotient(wild, far)
+	check("quotient", l, e)
+}

@@ -167,3 +167,24 @@ func TestHandedInStays(t *testing.T) {
 		t.Error(room)
 	}
 }
+
+// Quotients whose digits, guessed of the first words, are one too great.
+func TestGuessesTooGreat(t *testing.T) {
+	words := func(l ...uint64) []uint32 { return unpack(l) }
+	top := uint64(1) << 63
+	for i, x := range [][2][]uint32{
+		{words(0, 0, top, top-1), words(1, 0, top)},
+		{words(3, 0, top), words(1, 0, 1<<61)},
+		{words(0, math.MaxUint64-1, top), words(math.MaxUint64, top)},
+		{words(0, 0, 0, top, top-1), words(1, 0, 0, top)},
+		{words(0, 0, 1, top), words(math.MaxUint64, 0, top)},
+	} {
+		q, r, ok := DivMod(x[0], x[1])
+		wq, wr := new(big.Int).QuoRem(toBig(x[0]), toBig(x[1]), new(big.Int))
+		same(t, "quotient", q, wq)
+		same(t, "rest", r, wr)
+		if !ok {
+			t.Error(i)
+		}
+	}
+}

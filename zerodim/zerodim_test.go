@@ -249,3 +249,27 @@ func TestForty(t *testing.T) {
 		t.Error(k, e)
 	}
 }
+
+// ErrRange may be told where exponents are great; all else is empty then.
+func TestRange(t *testing.T) {
+	for i, l := range [][]api.MPoly{
+		{poly(2, []int{1, 60, 0}, []int{-1, 0, 1}), poly(2, []int{1, 1, 60}, []int{-1, 0, 0})},
+		{poly(2, []int{1, 1, 0}, []int{-1, 0, 2}), poly(2, []int{1, 0, 60}, []int{-1, 0, 0})},
+	} {
+		f := poly(2, []int{1, 60, 60})
+		m, e1 := Matrix(l, f)
+		u, e2 := Trace(l, f)
+		q, e3 := Eliminant(l, 0)
+		s, e4 := Stairs(l)
+		_, e5 := Finite(l)
+		d, e6 := Distinct(l)
+		for _, e := range []api.Errno{e1, e2, e3, e4, e5, e6} {
+			if e != api.OK && e != api.ErrRange {
+				t.Error(i, e)
+			}
+		}
+		if e1 != api.OK && m.R+len(m.A) != 0 || e2 != api.OK && u.R != 0 || e3 != api.OK && len(q) != 0 || e4 != api.OK && len(s) != 0 || e6 != api.OK && d != 0 {
+			t.Error(i)
+		}
+	}
+}

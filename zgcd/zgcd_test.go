@@ -136,3 +136,18 @@ func TestHolds(t *testing.T) {
 		t.Error("leading coefficients")
 	}
 }
+
+// Primes that tell too much, or nothing.
+func TestBadPrimes(t *testing.T) {
+	second := int(next(firstPrime))
+	h := poly(5, 3, 2)
+	for i, x := range []struct{ a, b, h api.ZPoly }{
+		{poly(1, 1), poly(2, 1), poly(1, firstPrime)}, {poly(0, 1), poly(firstPrime, 1), h}, {poly(0, 1), poly(second, 1), h}, {poly(0, 1), poly(second, 1), poly(1, second)},
+		{poly(1, firstPrime), poly(3, 2*firstPrime), poly(1)}, {poly(1, firstPrime), poly(3, 2*firstPrime), h}, {poly(firstPrime), poly(0, firstPrime+1), h},
+	} {
+		f, g := zpoly.Mul(x.a, x.h), zpoly.Mul(x.b, x.h)
+		if w := Gcd(f, g); !Holds(f, g, w) || !zpoly.Same(w.G, x.h) {
+			t.Error(i, w.G)
+		}
+	}
+}
