@@ -192,7 +192,7 @@ func TestRoot(t *testing.T) {
 		}
 	}
 	for _, k := range []int{0, -1, 1001} {
-		if _, _, e := Root(whole.Of(4), k); e != api.ErrArg {
+		if x, ok, e := Root(whole.Of(4), k); e != api.ErrArg || ok || len(x.Mag) != 0 {
 			t.Error(k)
 		}
 	}

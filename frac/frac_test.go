@@ -149,6 +149,9 @@ func TestEdges(t *testing.T) {
 	if a, e = Pow(rat(-1, 2), -1000); e != api.OK || whole.Sign(a.Num) < 0 || !isOne(a.Den) {
 		t.Error("-1000")
 	}
+	if a, e = Pow(rat(-1, 1), 1000); e != api.OK || !Same(a, rat(1, 1)) {
+		t.Error("1000")
+	}
 	a, e = Between(rat(1, 2), rat(1, 2))
 	zero(a, e, api.ErrArg)
 	a, e = Between(rat(1, 2), rat(1, 3))

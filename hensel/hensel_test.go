@@ -135,6 +135,8 @@ func TestHolds(t *testing.T) {
 		{poly(3), api.Lift{P: 7, K: 1, L: []api.ZPoly{poly(-2, 1)}}, false},
 		{api.ZPoly{whole.Of(1), whole.Of(0)}, api.Lift{P: 7, K: 2, L: l}, false},
 		{f, api.Lift{P: 7, K: 2, L: []api.ZPoly{{whole.Of(-10), whole.Of(1), whole.Of(0)}, poly(10, 1)}}, false},
+		{poly(-3, 1), api.Lift{P: 7, K: 200, L: []api.ZPoly{poly(-3, 1)}}, true}, {poly(-3, 1), api.Lift{P: 7, K: 201, L: []api.ZPoly{poly(-3, 1)}}, false}, {poly(-3, 1), api.Lift{P: 7, K: -1, L: []api.ZPoly{poly(-3, 1)}}, false}, {poly(-3, 1), api.Lift{P: 7, K: 1 << 40, L: []api.ZPoly{poly(-3, 1)}}, false},
+		{f, api.Lift{P: 7, K: 2, L: []api.ZPoly{poly(-10, 1), poly(10, 1), poly(0, 1)}}, false}, {api.ZPoly{whole.Of(-3), {Mag: []uint32{1, 0}}}, api.Lift{P: 7, K: 2, L: []api.ZPoly{poly(-3, 1)}}, false},
 		{poly(1, 1), api.Lift{P: 2, K: 1, L: []api.ZPoly{poly(1, 1)}}, true},
 		{poly(1, 1), api.Lift{P: 2, K: 1, L: []api.ZPoly{poly(-1, 1)}}, false},
 	} {

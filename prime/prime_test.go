@@ -109,6 +109,9 @@ func TestProve(t *testing.T) {
 			t.Error(n, e)
 		}
 	}
+	if _, e := Prove(1 << 40); e != api.ErrPrime {
+		t.Error(e)
+	}
 	if _, e := Prove(1<<40 + 1); e != api.ErrRange {
 		t.Error(e)
 	}
@@ -149,6 +152,8 @@ func TestHolds(t *testing.T) {
 		{9, []api.PrattStep{{N: 9, G: 2, Q: []uint64{2}, E: []int{3}}}, false},
 		{2, []api.PrattStep{{N: 2, G: 1}}, false},
 		{1<<63 + 1, []api.PrattStep{{N: 1<<63 + 1, G: 3, Q: []uint64{2}, E: []int{63}}}, false},
+		{5, []api.PrattStep{{N: 5, G: 2, Q: []uint64{2, 2}, E: []int{1, 1}}}, false},
+		{5, []api.PrattStep{{N: 5, G: 2, Q: []uint64{2}, E: []int{2}}}, true},
 		{65537, []api.PrattStep{{N: 65537, G: 3, Q: []uint64{2}, E: []int{16}}}, true},
 	} {
 		if Holds(x.n, x.l) != x.want {
@@ -186,5 +191,36 @@ func TestNothingComposite(t *testing.T) {
 				t.Fatal(n, g)
 			}
 		}
+	}
+}
+
+// A prime from 2^63 on has no paper, though all else is right.
+func TestTooGreat(t *testing.T) {
+	found := 0
+	for k := uint64(1); k < 512 && found < 6; k++ {
+		n := k<<55 + 1
+		if !new(big.Int).SetUint64(n).ProbablyPrime(20) {
+			continue
+		}
+		q, e, _ := Factor(k << 20)
+		e[0] += 35
+		var l []api.PrattStep
+		for _, p := range q {
+			l = prove(l, p)
+		}
+		g := uint64(2)
+		for !generates(g, n, q) {
+			g++
+		}
+		l = append(l, api.PrattStep{N: n, G: g, Q: q, E: e})
+		if Holds(n, l) != (n < 1<<63) {
+			t.Error(n)
+		}
+		if n >= 1<<63 {
+			found++
+		}
+	}
+	if found == 0 {
+		t.Error("none")
 	}
 }

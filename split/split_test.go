@@ -191,6 +191,10 @@ func TestHolds(t *testing.T) {
 			t.Error(i)
 		}
 	}
+	linear7, linear5 := poly(7, 1, 1), poly(5, 1, 1)
+	if Holds(linear7, api.PFactors{C: 1, L: []api.PPower{{F: linear5, N: 1}}}, []api.PIrr{{F: linear5}}) || !Holds(linear7, api.PFactors{C: 1, L: []api.PPower{{F: linear7, N: 1}}}, []api.PIrr{{F: linear7}}) {
+		t.Error("another prime")
+	}
 	if !Holds(poly(5, 1, 2, 1), api.PFactors{C: 1, L: []api.PPower{{F: x.L[0].F, N: 2}}}, w[:1]) {
 		t.Error("twice")
 	}

@@ -251,3 +251,30 @@ func TestLaws(t *testing.T) {
 		}
 	}
 }
+
+// Nothing holds of what may not be.
+func TestWhatMayNotBe(t *testing.T) {
+	f, g := poly(-2, 3, 1), poly(-1, 0, 0, 2)
+	x := Cofactors(f, g)
+	one := api.Int{Mag: []uint32{1, 0}}
+	long := func(h api.ZPoly) api.ZPoly { return append(h[:len(h):len(h)], api.Int{}) }
+	wide := func(h api.ZPoly) api.ZPoly {
+		out := append(api.ZPoly(nil), h...)
+		out[0].Mag = append(append([]uint32(nil), out[0].Mag...), 0)
+		return out
+	}
+	if !Holds(f, g, x) {
+		t.Fatal("what holds")
+	}
+	for i, ok := range []bool{
+		Holds(long(f), g, x), Holds(f, long(g), x), Holds(wide(f), g, x), Holds(f, wide(g), x),
+		Holds(f, g, api.Res{R: api.Int{Neg: x.R.Neg, Mag: append(append([]uint32(nil), x.R.Mag...), 0)}, A: x.A, B: x.B}),
+		Holds(f, g, api.Res{R: x.R, A: wide(x.A), B: x.B}), Holds(f, g, api.Res{R: x.R, A: x.A, B: wide(x.B)}),
+		Holds(f, g, api.Res{R: x.R, A: long(x.A), B: x.B}), Holds(f, g, api.Res{R: x.R, A: x.A, B: long(x.B)}),
+		Holds(nil, poly(1, 1), api.Res{A: api.ZPoly{one}}), Holds(poly(1, 1), nil, api.Res{B: api.ZPoly{one}}),
+	} {
+		if ok {
+			t.Error(i)
+		}
+	}
+}

@@ -114,6 +114,7 @@ func TestHolds(t *testing.T) {
 		{by(7, poly(2), poly(-2, 0, 2), poly(3, 3)), false},
 		{by(5, poly(2, 2), poly(-2, 2), poly(4)), false},
 		{api.ZGcd{G: poly(2, 2), A: poly(-2, 2), B: poly(3)}, false},
+		{by(5, poly(2, 2), poly(-2, 2), poly(1)), false}, {by(5, poly(2, 2), poly(1, 2), poly(3)), false},
 		{api.ZGcd{}, false},
 	} {
 		if Holds(f, g, x.w) != x.want {
