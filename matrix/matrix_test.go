@@ -113,6 +113,12 @@ func TestKept(t *testing.T) {
 	if x, e := At(a, 1, 2); e != api.OK || !frac.Same(x, number(6)) {
 		t.Error(x)
 	}
+	if x, e := At(a, 0, 0); e != api.OK || !frac.Same(x, number(1)) {
+		t.Error(x)
+	}
+	if b, e := Set(a, 0, 0, number(9)); e != api.OK || !Same(b, mat(3, 9, 2, 3, 4, 5, 6)) {
+		t.Error(b)
+	}
 	b, e := Set(a, 1, 0, rat(1, 2))
 	if x, _ := At(b, 1, 0); e != api.OK || !frac.Same(x, rat(1, 2)) || !Same(a, mat(3, 1, 2, 3, 4, 5, 6)) {
 		t.Error("set")
@@ -176,8 +182,13 @@ func TestSquare(t *testing.T) {
 			t.Error(e)
 		}
 	}
-	if _, e := Add(mat(2, 1, 2), mat(1, 1, 2)); e != api.ErrArg {
-		t.Error(e)
+	for _, b := range []api.Mat{mat(1, 1, 2), mat(2, 1, 2, 3, 4), mat(1, 1), mat(3, 1, 2, 3)} {
+		if c, e := Add(mat(2, 1, 2), b); e != api.ErrArg || !Same(c, api.Mat{}) {
+			t.Error(e)
+		}
+	}
+	if c, e := Add(mat(2, 1, 2), mat(2, 3, -2)); e != api.OK || !Same(c, mat(2, 4, 0)) {
+		t.Error(c, e)
 	}
 	if _, e := Mul(mat(2, 1, 2), mat(2, 1, 2)); e != api.ErrArg {
 		t.Error(e)

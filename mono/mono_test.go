@@ -40,7 +40,7 @@ func TestRight(t *testing.T) {
 		n    int
 		o    api.Order
 		want bool
-	}{{0, api.Order{}, true}, {3, api.Order{Kind: 2}, true}, {3, api.Order{Kind: 1, Cut: 1}, false}, {3, api.Order{Kind: 3, Cut: 3}, true}, {3, api.Order{Kind: 3, Cut: 4}, false}, {3, api.Order{Kind: 3, Cut: -1}, false}, {3, api.Order{Kind: 4}, false}, {3, api.Order{Kind: -1}, false}, {7, api.Order{}, false}, {-1, api.Order{}, false}, {math.MaxInt, api.Order{Kind: math.MinInt}, false}} {
+	}{{0, api.Order{}, true}, {6, api.Order{}, true}, {6, api.Order{Kind: 3, Cut: 6}, true}, {3, api.Order{Kind: 3, Cut: 0}, true}, {0, api.Order{Kind: 3}, true}, {3, api.Order{Kind: 2}, true}, {3, api.Order{Kind: 1, Cut: 1}, false}, {3, api.Order{Kind: 3, Cut: 3}, true}, {3, api.Order{Kind: 3, Cut: 4}, false}, {3, api.Order{Kind: 3, Cut: -1}, false}, {3, api.Order{Kind: 4}, false}, {3, api.Order{Kind: -1}, false}, {7, api.Order{}, false}, {-1, api.Order{}, false}, {math.MaxInt, api.Order{Kind: math.MinInt}, false}} {
 		if Order(x.n, x.o) != x.want {
 			t.Error(i)
 		}
@@ -76,6 +76,12 @@ func TestParts(t *testing.T) {
 	}
 	if p, e := Mul([]int{30}, []int{30}); e != api.OK || p[0] != 60 {
 		t.Error(p)
+	}
+	if Divides([]int{1, 2}, []int{2, 1}) || Divides([]int{3}, []int{2}) || !Divides(nil, nil) {
+		t.Error("divides")
+	}
+	if q, ok := Div([]int{2, 1}, []int{1, 2}); ok || len(q) != 0 {
+		t.Error(q)
 	}
 	if _, e := Mul([]int{31}, []int{30}); e != api.ErrRange {
 		t.Error(e)

@@ -105,6 +105,9 @@ func TestKept(t *testing.T) {
 			t.Error(i)
 		}
 	}
+	if deep := zpoly.Add(zpoly.Mono(whole.Of(1), 40), poly(-2)); !Right(api.Alg{M: deep, K: 1}) || Right(api.Alg{M: deep, K: 2}) {
+		t.Error("degree 40")
+	}
 	a := Of(rat(-3, 4))
 	if !Right(a) || !zpoly.Same(a.M, poly(3, 4)) || a.K != 0 || !Right(Of(rat(0, 1))) {
 		t.Error("of")
@@ -253,6 +256,19 @@ func TestField(t *testing.T) {
 		if a, e := Mul(x[0], x[1]); e != api.ErrRange || len(a.M) != 0 {
 			t.Error(e)
 		}
+	}
+	twelfth := rootOf(t, 1, -2, 0, 0, 0, 0, 0, 0, 0, 0, 0, 0, 0, 1)
+	if s, e := Add(twelfth, Of(rat(1, 2))); e != api.OK || !Right(s) {
+		t.Error(e)
+	}
+	if p, e := Mul(twelfth, Of(rat(1, 2))); e != api.OK || !Right(p) {
+		t.Error(e)
+	}
+	if p, e := Mul(rootOf(t, 0, -2, 0, 0, 1), rootOf(t, 1, -3, 0, 0, 0, 1)); e != api.OK || zpoly.Deg(p.M) != 12 {
+		t.Error(p, e)
+	}
+	if _, e := Mul(rootOf(t, 0, -2, 0, 0, 0, 0, 0, 0, 0, 0, 0, 0, 0, 0, 1), Of(rat(1, 1))); e != api.ErrRange {
+		t.Error(e)
 	}
 	edge := Of(rat(1<<60-1, 1<<60-3))
 	if a, e := Add(edge, rootOf(t, 0, 1<<60-1, 0, 0, 0, 0, 0, 0, 0, 0, 0, 0, 1<<60-5)); e != api.OK || !Right(a) {

@@ -158,6 +158,10 @@ func TestHolds(t *testing.T) {
 		{append(f[:len(f):len(f)], whole.Of(0)), c, false},
 		{f, api.Chain{F: []api.ZPoly{f, poly(0, 2), poly(1)}, S: []api.SturmStep{step(2, 4, poly(0, 1)), step(1, 0, poly(0, 2))}}, false},
 		{f, api.Chain{F: []api.ZPoly{f, poly(0, 2), poly(1)}, S: []api.SturmStep{step(2, 4, poly(0, 1)), {A: whole.Of(1), B: api.Int{Mag: []uint32{1, 0}}, Q: poly(0, 2)}}}, false},
+		// Nothing but a degree that doesn't fall, and nothing but a coefficient 0 at the top, is wrong.
+		{f, api.Chain{F: []api.ZPoly{f, poly(0, 2), poly(2, 1), poly(1)}, S: []api.SturmStep{step(2, 2, poly(1, 1)), step(1, 4, poly(2)), step(1, 1, poly(2, 1))}}, false},
+		{poly(-1, 0, 0, 0, 1), api.Chain{F: []api.ZPoly{poly(-1, 0, 0, 0, 1), poly(0, 0, 0, 4), poly(1)}, S: []api.SturmStep{step(4, 4, poly(0, 1)), step(1, 1, poly(0, 0, 0, 4))}}, true},
+		{poly(-1, 0, 0, 0, 1), api.Chain{F: []api.ZPoly{poly(-1, 0, 0, 0, 1), poly(0, 0, 0, 4), {whole.Of(1), whole.Of(0)}}, S: []api.SturmStep{step(4, 4, poly(0, 1)), step(1, 1, poly(0, 0, 0, 4))}}, false},
 		{f, api.Chain{F: []api.ZPoly{f, poly(0, 2), poly(0, 2)}, S: []api.SturmStep{step(1, 1, poly(1)), step(1, 1, poly(1))}}, false},
 	} {
 		if Holds(x.f, x.c) != x.want {

@@ -236,6 +236,17 @@ func TestIrreducible(t *testing.T) {
 	if len(one.Mod) != 1 || !Irreducible(one) {
 		t.Error("one factor")
 	}
+	// The power must be greater than the bound: of x^2 + x + 1 that is 2^4.
+	h := poly(1, 1, 1)
+	if Irreducible(paper(h, 2, 4)) || !Irreducible(paper(h, 2, 5)) {
+		t.Error("as great as the bound")
+	}
+	// All but that two images are alike.
+	twice := poly(26, 2, 1)
+	image, _ := degrees.Prove(ppoly.From(5, poly(1, 1)))
+	if Irreducible(api.ZIrr{F: twice, Mod: []api.PIrr{image, image}, Lift: api.Lift{P: 5, K: 4, L: []api.ZPoly{poly(-34, 1), poly(36, 1)}}}) {
+		t.Error("two images alike")
+	}
 	deep := zpoly.Add(zpoly.Mono(whole.Of(1), 41), poly(2))
 	if Irreducible(paper(deep, 101, 20)) {
 		t.Error("above degree 40")
@@ -259,6 +270,7 @@ func TestHolds(t *testing.T) {
 		{nil, api.ZFactors{}, nil}, {zpoly.Neg(f), x, w}, {append(f[:len(f):len(f)], whole.Of(0)), x, w},
 		{f, api.ZFactors{C: x.C, L: x.L[:1]}, w[:1]}, {f, x, []api.ZIrr{w[1], w[0]}},
 		{poly(5), api.ZFactors{C: api.Int{Mag: []uint32{5, 0}}}, nil},
+		{poly(9, 6, 1), api.ZFactors{C: whole.Of(1), L: []api.ZPower{{F: poly(3, 1), N: 1}, {F: poly(3, 1), N: 1}}}, []api.ZIrr{{F: poly(3, 1)}, {F: poly(3, 1)}}},
 	} {
 		if Holds(y.f, y.x, y.w) {
 			t.Error(i)
