@@ -173,6 +173,9 @@ func TestEdges(t *testing.T) {
 		{[]api.MPoly{mpoly.Var(3, 1), x}, lex, false}, {[]api.MPoly{x, x}, lex, false}, {[]api.MPoly{one}, lex, true}, {[]api.MPoly{one, x}, lex, false},
 		{[]api.MPoly{poly(2, []int{1, 1, 1}, []int{-1, 0, 0}), poly(2, []int{1, 2, 0}, []int{-1, 0, 1})}, lex, false},
 		{[]api.MPoly{{N: 7}}, lex, false},
+		// The S-polynomial of both has y^61.
+		{[]api.MPoly{poly(3, []int{1, 0, 1, 1}), poly(3, []int{1, 1, 0, 0}, []int{1, 0, 60, 0})}, lex, false},
+		{[]api.MPoly{poly(3, []int{1, 0, 1, 1}), poly(3, []int{1, 1, 0, 0}, []int{1, 0, 59, 0})}, lex, true},
 	} {
 		if Is(c.l, c.o) != c.want {
 			t.Error(i)
@@ -248,6 +251,9 @@ func TestGreatExponents(t *testing.T) {
 		{poly(2, []int{1, 2, 0}, []int{-1, 0, 31}), poly(2, []int{1, 1, 2}, []int{-1, 0, 0})},
 		{poly(2, []int{1, 31, 0}, []int{1, 0, 31}, []int{1, 0, 0}), poly(2, []int{1, 30, 1}, []int{1, 1, 30}, []int{2, 0, 0})},
 		{poly(1, []int{1, 60}, []int{1, 0}), poly(1, []int{1, 59}, []int{3, 1})},
+		{poly(3, []int{1, 0, 1, 1}), poly(3, []int{1, 1, 0, 0}, []int{1, 0, 60, 0})},
+		{poly(3, []int{1, 0, 1, 1}), poly(3, []int{1, 1, 0, 0}, []int{1, 0, 59, 0})},
+		{poly(3, []int{1, 30, 0, 1}), poly(3, []int{1, 0, 31, 0}, []int{1, 31, 0, 0})},
 	} {
 		for _, o := range []api.Order{lex, {Kind: api.GrevLex}} {
 			b, e := Make(l, o)

@@ -84,6 +84,10 @@ func TestReduce(t *testing.T) {
 	}
 	f := fun(poly(1), poly(0, 0, 1))
 	zero := fun(nil, poly(1))
+	one := fun(poly(1), poly(1))
+	if Holds(one, api.RatFun{Num: poly(0, 0, 1), Den: poly(0, 1)}, zero) || !Holds(one, fun(poly(0, 1), poly(1)), zero) {
+		t.Error("not in lowest terms")
+	}
 	if Holds(f, zero, f) || Holds(api.RatFun{}, zero, zero) || Holds(f, api.RatFun{}, f) || !Holds(zero, zero, zero) || Holds(zero, fun(poly(3), poly(1)), zero) {
 		t.Error("holds")
 	}

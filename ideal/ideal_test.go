@@ -222,10 +222,10 @@ func TestLattice(t *testing.T) {
 func TestErrors(t *testing.T) {
 	x, z := mpoly.Var(2, 0), mpoly.Var(3, 0)
 	two, three := []api.MPoly{x}, []api.MPoly{z}
-	if _, _, e := In(x, three); e != api.ErrArg {
+	if c, ok, e := In(x, three); e != api.ErrArg || ok || len(c) != 0 {
 		t.Error(e)
 	}
-	if _, _, e := One([]api.MPoly{x, z}); e != api.ErrArg {
+	if c, ok, e := One([]api.MPoly{x, z}); e != api.ErrArg || ok || len(c) != 0 {
 		t.Error(e)
 	}
 	if _, e := Radical(x, three); e != api.ErrArg {
@@ -247,7 +247,7 @@ func TestErrors(t *testing.T) {
 			t.Error(e)
 		}
 	}
-	if _, e := Equal(two, three); e != api.ErrArg {
+	if ok, e := Equal(two, three); e != api.ErrArg || ok {
 		t.Error(e)
 	}
 	if l, e := Meet([]api.MPoly{mpoly.Var(6, 0)}, []api.MPoly{mpoly.Var(6, 1)}); e != api.OK && (e != api.ErrRange || len(l) != 0) {

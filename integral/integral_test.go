@@ -129,6 +129,9 @@ func TestDefinite(t *testing.T) {
 		deep = qpoly.Mul(deep, poly(0, 1))
 	}
 	long := fun(poly(1), deep)
+	if x, e := Definite(fun(poly(1), deep[1:]), rat(1, 1), rat(1, 1)); e != api.OK || frac.Sign(x) != 0 {
+		t.Error(x, e)
+	}
 	for i, c := range []struct {
 		f    api.RatFun
 		a, b api.Rat

@@ -135,6 +135,20 @@ func TestHolds(t *testing.T) {
 			t.Error(i)
 		}
 	}
+	if Holds(h, []api.Log{{Q: poly(-1, 1), S: []api.QPoly{poly(-1, 1), one}}}) {
+		t.Error("not reduced")
+	}
+	both := ratfun.Add(h, fun(one, poly(-1, 1)))
+	other := api.Log{Q: poly(-1, 1), S: []api.QPoly{poly(-1), one}}
+	if Holds(both, []api.Log{good, good}) || !Holds(both, []api.Log{good, other}) {
+		t.Error("one residue, told apart")
+	}
+	// What stands at 3 comes and goes.
+	up := api.Log{Q: poly(-1, 1), S: []api.QPoly{poly(12), poly(-7), one}}
+	down := api.Log{Q: poly(1, 1), S: []api.QPoly{poly(-3), one}}
+	if far := fun(one, poly(-4, 1)); !Holds(far, []api.Log{up, down}) || Holds(far, []api.Log{up}) {
+		t.Error("what goes away again")
+	}
 	// 1/2 of the logarithm of x^2, which is no square-free S, stands for 1/x too.
 	if !Holds(h, []api.Log{{Q: api.QPoly{rat(-1, 2), rat(1, 1)}, S: []api.QPoly{nil, nil, one}}}) {
 		t.Error("a square")

@@ -171,6 +171,9 @@ func TestEdges(t *testing.T) {
 		{api.MPoly{N: 2}, []api.MPoly{x, x}, lex, api.Divided{Q: []api.MPoly{one, mpoly.Neg(one)}, R: api.MPoly{N: 2}}},
 		{y, []api.MPoly{x, x}, lex, api.Divided{Q: []api.MPoly{one, mpoly.Neg(one)}, R: y}},
 		{f, l, lex, api.Divided{Q: []api.MPoly{{N: 2}, {N: 2}}, R: f}},
+		{x, []api.MPoly{x, {N: 2}}, lex, api.Divided{Q: []api.MPoly{one, one}, R: api.MPoly{N: 2}}},
+		{y, []api.MPoly{g, g}, lex, api.Divided{Q: []api.MPoly{x, mpoly.Neg(x)}, R: y}},
+		{x, []api.MPoly{x, y}, lex, api.Divided{Q: []api.MPoly{one, {N: 3}}, R: api.MPoly{N: 2}}},
 	} {
 		if Holds(c.f, c.l, c.o, c.d) {
 			t.Error(i)

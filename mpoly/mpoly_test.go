@@ -154,6 +154,13 @@ func TestRange(t *testing.T) {
 	if p, e := Mul(x31, api.MPoly{N: 2}); e != api.OK || len(p.T) != 0 || p.N != 2 {
 		t.Error(e)
 	}
+	if p, e := Pow(x, 60); e != api.OK || Deg(p) != 60 {
+		t.Error(e)
+	}
+	x30y, _ := Mul(x30, y)
+	if p, e := Subst(x30y, 1, x30); e != api.OK || Deg(p) != 60 {
+		t.Error(e)
+	}
 	for _, k := range []int{-1, 61, 1001, math.MaxInt, math.MinInt} {
 		if p, e := Pow(x, k); e != api.ErrRange || p.N != 0 {
 			t.Error(k, e)
@@ -264,7 +271,7 @@ func TestOneVariable(t *testing.T) {
 		n, i int
 		f    api.QPoly
 		e    api.Errno
-	}{{7, 0, q, api.ErrArg}, {-1, 0, q, api.ErrArg}, {2, 2, q, api.ErrArg}, {2, -1, long, api.ErrArg}, {0, 0, q, api.ErrArg}, {2, 1, long, api.ErrRange}, {2, 1, long[:61], api.OK}, {math.MaxInt, 1, q, api.ErrArg}} {
+	}{{7, 0, q, api.ErrArg}, {-1, 0, q, api.ErrArg}, {2, 2, q, api.ErrArg}, {2, -1, long, api.ErrArg}, {0, 0, q, api.ErrArg}, {2, 1, long, api.ErrRange}, {2, 1, long[:61], api.OK}, {6, 5, q, api.OK}, {1, 0, q, api.OK}, {6, 6, q, api.ErrArg}, {math.MaxInt, 1, q, api.ErrArg}} {
 		if f, e := Of(x.n, x.i, x.f); e != x.e || e != api.OK && f.N != 0 {
 			t.Error(i, e)
 		}

@@ -101,7 +101,7 @@ func Subst(f api.MPoly, i int, g api.MPoly) (api.MPoly, api.Errno) {
 			if v != i {
 				e += t.E[v]
 			}
-			if e > api.MaxExp && (len(g.T) > 0 || t.E[i] == 0) {
+			if e > api.MaxExp {
 				return api.MPoly{}, api.ErrRange
 			}
 		}

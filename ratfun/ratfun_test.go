@@ -90,6 +90,9 @@ func TestField(t *testing.T) {
 	if x, e := Value(api.RatFun{Num: poly(1), Den: poly(-2, 1)}, rat(2, 1)); e != api.ErrZero || len(x.Den.Mag) != 0 {
 		t.Error(e)
 	}
+	if Same(api.RatFun{Num: poly(1), Den: poly(1)}, api.RatFun{Num: poly(1), Den: poly(0, 1)}) || Same(api.RatFun{Num: poly(1), Den: poly(1)}, api.RatFun{Num: poly(2), Den: poly(1)}) || !Same(api.RatFun{}, api.RatFun{}) {
+		t.Error("same")
+	}
 	f, _ := New(poly(-2, 0, 2), poly(-4, 4))
 	must(t, "new", f, api.RatFun{Num: api.QPoly{rat(1, 2), rat(1, 2)}, Den: poly(1)})
 	for i, x := range []struct {
