@@ -41,6 +41,10 @@ func TestDesk(t *testing.T) {
 	if ok, e := d.Undo(); ok || e != api.OK {
 		t.Error("nothing to undo")
 	}
+	do(t, d, "let x, 1")
+	if ok, e := d.Undo(); !ok || e != api.OK || len(d.Lines()) != 0 || len(state(t, d)) != 0 {
+		t.Error("the only line")
+	}
 	var s api.State
 	for i, line := range lines() {
 		next, want := shell.Run(s, line)

@@ -93,7 +93,7 @@ func TestRight(t *testing.T) {
 		{api.Expr{x, x, node(api.NodeAdd, 1, 0)}, false}, {api.Expr{x, x, node(api.NodeAdd, 0, 0)}, false}, {api.Expr{x, x}, false}, {api.Expr{x, node(api.NodeAdd, 0, 0)}, false}, {api.Expr{x, node(api.NodeNeg, 0)}, true},
 		{api.Expr{x, node(api.NodeNeg, 1)}, false}, {api.Expr{x, node(api.NodeNeg, -1)}, false}, {api.Expr{num(-1)}, false}, {api.Expr{{Kind: api.NodeNum, Num: long}}, false}, {api.Expr{{Kind: api.NodeNum, Num: whole.Sub(long, whole.Of(1))}}, true},
 		{api.Expr{{Kind: api.NodeNum, Num: api.Int{Mag: []uint32{0}}}}, false}, {api.Expr{{Kind: api.NodeVar}}, false}, {api.Expr{{Kind: api.NodeVar, Name: "1x"}}, false}, {api.Expr{{Kind: api.NodeVar, Name: strings.Repeat("x", 21)}}, false}, {api.Expr{{Kind: api.NodeVar, Name: strings.Repeat("x", 20)}}, true},
-		{api.Expr{{Kind: api.NodeVar, Name: "x_"}}, false}, {api.Expr{{Kind: api.NodeVar, Name: "x", Num: whole.Of(1)}}, false}, {api.Expr{{Kind: api.NodeNum, Name: "x"}}, false}, {api.Expr{{Kind: 8}}, false}, {api.Expr{{Kind: -1}}, false},
+		{api.Expr{{Kind: api.NodeVar, Name: "x_"}}, false}, {api.Expr{{Kind: api.NodeVar, Name: "x", Num: whole.Of(1)}}, false}, {api.Expr{{Kind: api.NodeNum, Name: "x"}}, false}, {api.Expr{x, {Kind: api.NodeNeg, Kids: []int{0}, Name: "x"}}, false}, {api.Expr{x, {Kind: api.NodeNeg, Kids: []int{0}, Num: whole.Of(1)}}, false}, {api.Expr{x, x, {Kind: api.NodeMul, Kids: []int{0, 1}, Num: whole.Of(1)}}, false}, {api.Expr{{Kind: 8}}, false}, {api.Expr{{Kind: -1}}, false},
 		{api.Expr{x, x, x, node(api.NodeAdd, 1, 2), node(api.NodeMul, 0, 3)}, true}, {api.Expr{x, x, x, node(api.NodeAdd, 0, 1), node(api.NodeMul, 3, 2)}, false}, {api.Expr{x, x, {Kind: api.NodeAdd, Kids: []int{0, 1}, Name: "x"}}, false},
 	} {
 		if Right(c.e) != c.want {
@@ -132,6 +132,8 @@ func TestParse(t *testing.T) {
 		"x^0002":              "x^2",
 		"-x - -y":             "-x - -y",
 		"2^1000":              "2^1000",
+		"aZ9+Az0":             "aZ9 + Az0",
+		"Z*z*A*a":             "Z*z*A*a",
 	} {
 		if got := Print(parse(t, s)); got != want {
 			t.Errorf("%q: %q, want %q", s, got, want)

@@ -187,6 +187,7 @@ func TestNoThings(t *testing.T) {
 	for s, want := range map[string]string{
 		"5": "ns", "4611686018427387904": "ns", "4611686018427387905": "n", "-4611686018427387904": "ns", "-4611686018427387905": "n", "99999999999999999999": "n", "yes": "w", "()": "zqlg", "(0)": "m", "(1 2)": "rz", "(2 4)": "z", "(1 -2)": "z", "(1 0)": "ro"[1:],
 		"(0 1)": "rz", "(3 6)": "zo", "(3 7)": "rz", "(4 0)": "", "(0 0)": "o", "((1 2) (0 1))": "l", "((1 2))": "ql", "(5 (1 2))": "p", "(5 (1 0))": "", "(4 (1))": "", "(5 (5))": "", "(5 (-1))": "", "(5 (4294967297))": "", "(5 ())": "p", "(1 1 ((3 1)))": "a", "(1 1 ())": "", "(0 0 ())": "a", "(41 0 ())": "", "(1 1 ((3 1) (3 1)))": "",
+		"(0 (yes (1 1)))": "", "(0 (() 5))": "", "(0 (() (1 1)))": "m", "(5 (4294967296 1))": "", "(4294967301 (1))": "",
 		"(2 ((0 1) (1 1)))": "m", "(2 ((0 1) (0 1)))": "", "(1 ((0 1) (1 1)))": "", "(1 ((0) (1 1)) ((1) (1 1)))": "", "(7)": "m"[1:], "((2) (2))": "g", "((2) (3))": "", "((0) (1 ((1) (1 1))))": "", "(1 yes)": "", "(yes)": "",
 	} {
 		got := is(s)
@@ -245,7 +246,7 @@ func TestPapers(t *testing.T) {
 	if s, _ := Put(four); s != "(gcdint (4 6) 2 (-1 1))\n" {
 		t.Error(s)
 	}
-	for i, p := range []api.Paper{{}, {Verb: "A", Question: Small(1), Answer: Small(1), Witness: Small(1)}, {Verb: "a", Question: Small(1), Answer: Small(1)}, {Verb: strings.Repeat("a", 21), Question: Small(1), Answer: Small(1), Witness: Small(1)}, {Verb: "", Question: Small(1), Answer: Small(1), Witness: Small(1)}} {
+	for i, p := range []api.Paper{{}, {Verb: "a", Answer: Small(1), Witness: Small(1)}, {Verb: "a", Question: Small(1), Witness: Small(1)}, {Verb: "A", Question: Small(1), Answer: Small(1), Witness: Small(1)}, {Verb: "a", Question: Small(1), Answer: Small(1)}, {Verb: strings.Repeat("a", 21), Question: Small(1), Answer: Small(1), Witness: Small(1)}, {Verb: "", Question: Small(1), Answer: Small(1), Witness: Small(1)}} {
 		if s, e := Put(p); e != api.ErrArg || s != "" {
 			t.Error(i)
 		}
