@@ -76,6 +76,7 @@ func TestErrors(t *testing.T) {
 		{"prime x", api.ErrKind, 0}, {"prime 1/2", api.ErrKind, 0}, {"prime -1", api.ErrRange, 0}, {"prime 1099511627777", api.ErrRange, 0},
 		{"roots 0", api.ErrZero, 0}, {"roots x^41", api.ErrRange, 0}, {"roots x/2", api.ErrKind, 0}, {"count x, y, 1", api.ErrKind, 0}, {"count x, 1, 0", api.ErrArg, 0}, {"count 0, 1, 0", api.ErrArg, 0}, {"count 0, 0, 1", api.ErrZero, 0}, {"count x/2, 0, 1", api.ErrKind, 0},
 		{"approx x, 0, 101", api.ErrArg, 0}, {"approx x, 1, 1", api.ErrNone, 0}, {"approx 0, 1, 1", api.ErrZero, 0}, {"approx x, -1, 1", api.ErrKind, 0}, {"approx x, 1001, 1", api.ErrKind, 0}, {"approx x, 0, 1/2", api.ErrKind, 0}, {"approx x/2, 0, 0", api.ErrKind, 0},
+		{"approx x, 0, 1000", api.ErrArg, 0}, {"series x, 1000", api.ErrRange, 0}, {"approx x, 1000, 0", api.ErrNone, 0},
 		{"det 1, 2", api.ErrArg, 0}, {"det 1, 2; 3", api.ErrArg, 0}, {"det 1, x; 3", api.ErrArg, 0}, {"det x", api.ErrKind, 0}, {"det 1, x", api.ErrKind, 0}, {"rank x", api.ErrKind, 0}, {"rank 1; 2, 3", api.ErrArg, 0}, {"inverse 1, 2; 2, 4", api.ErrNone, 0}, {"inverse 1, 2", api.ErrArg, 0}, {"linear x, 1", api.ErrKind, 0},
 		{"rank 1" + strings.Repeat(",1", 40), api.ErrArg, 0}, {"rank 1" + strings.Repeat(";1", 40), api.ErrArg, 0},
 		{"in 1/x; x", api.ErrKind, 0}, {"in a+b+c+d; e+f+g", api.ErrRange, 0}, {"basis 1/x", api.ErrKind, 0}, {"points x - y", api.ErrNone, 0}, {"points 1/x", api.ErrKind, 0},
@@ -87,6 +88,15 @@ func TestErrors(t *testing.T) {
 		r := run(t, c.line)
 		if r.Err != c.e || r.At != c.at || r.Text != "" || r.Paper != "" {
 			t.Errorf("%.40q: %d at %d, want %d at %d (%s)", c.line, r.Err, r.At, c.e, c.at, r.Text)
+		}
+	}
+	ones := strings.Repeat(",1", 39)
+	for line, want := range map[string]string{
+		"in a+b+c; d+e+f": "no", "rank 1" + ones: "1", "rank 1" + strings.Repeat(";1", 39): "1", "show x" + strings.Repeat(" ", 3994): "x", "roots x^40": "0.000000", "show " + strings.Repeat("-", 1998) + "x": "x",
+		"det 1" + ones + strings.Repeat(";1"+ones, 39): "0",
+	} {
+		if r := run(t, line); r.Err != api.OK || r.Text != want {
+			t.Error(line, r)
 		}
 	}
 	if r := run(t, "show "+strings.Repeat("-", 1999)+"x"); r.Err != api.OK {
@@ -129,7 +139,14 @@ func TestState(t *testing.T) {
 	if n, r := Run(s, "gcd a00"); r.Err != api.ErrArg || !Same(n, s) {
 		t.Error(r)
 	}
-	// What is replaced may be too long.
+	// What is replaced may be just so long, or too long.
+	s, _ = Run(nil, "let a, "+strings.Repeat("-", 998)+"x")
+	if _, r := Run(s, "show -a+a"); r.Err != api.OK || r.Text != "0" {
+		t.Error(r)
+	}
+	if _, r := Run(s, "show --a+a"); r.Err != api.ErrRange {
+		t.Error(r)
+	}
 	s, _ = Run(nil, "let a, "+strings.Repeat("x+", 300)+"x")
 	if _, r := Run(s, "show a+a+a+a"); r.Err != api.ErrRange {
 		t.Error(r.Err)
@@ -148,6 +165,13 @@ func TestState(t *testing.T) {
 	}
 	one := api.State{{Name: "a", E: x}}
 	two := api.State{{Name: "a", E: api.Expr{{Kind: api.NodeNum, Num: whole.Of(1)}}}}
+	y, _, _ := expr.Parse("y")
+	sum, _, _ := expr.Parse("x + y")
+	less, _, _ := expr.Parse("x - y")
+	with := func(e api.Expr) api.State { return api.State{{Name: "a", E: e}} }
+	if Same(one, with(y)) || Same(with(sum), with(less)) || Same(two, with(api.Expr{{Kind: api.NodeNum, Num: whole.Of(2)}})) || !Same(with(sum), with(slices.Clone(sum))) {
+		t.Error("same nodes")
+	}
 	if Same(one, two) || Same(one, nil) || !Same(one, api.State{{Name: "a", E: slices.Clone(x)}}) || Same(one, api.State{{Name: "b", E: x}}) {
 		t.Error("same")
 	}
