@@ -38,10 +38,10 @@ func (x *taker) gcd(p api.Paper) func() bool {
 	q, w := x.fixed(p.Question, 2), x.fixed(p.Witness, 5)
 	f, g := x.zpoly(q[0]), x.zpoly(q[1])
 	d, a, b := x.zpoly(p.Answer), x.zpoly(w[0]), x.zpoly(w[1])
-	prime := x.word32(w[2])
+	modulus := x.word32(w[2])
 	u, v := x.ppoly(w[3]), x.ppoly(w[4])
-	x.wrong = x.wrong || u.P != prime || v.P != prime
-	one := api.PPoly{P: prime, C: []uint32{1}}
+	x.wrong = x.wrong || u.P != modulus || v.P != modulus
+	one := api.PPoly{P: modulus, C: []uint32{1}}
 	return func() bool {
 		return zgcd.Holds(f, g, api.ZGcd{G: d, A: a, B: b, W: api.PBezout{G: one, U: u, V: v}})
 	}
