@@ -163,11 +163,10 @@ func (b *builder) number(a api.Int) int {
 		b.nodes = append(b.nodes, api.Node{Kind: api.NodeNum, Num: a})
 		return len(b.nodes) - 1
 	}
-	base, _ := whole.Pow(whole.Of(10), api.MaxDigits)
+	base, _ := whole.Pow(whole.Of(10), api.MaxDigits-1)
 	high, low, _ := whole.DivMod(a, base)
 	top := b.number(high)
-	ten, many := b.number(whole.Of(10)), b.number(whole.Of(api.MaxDigits))
-	shifted := b.add(api.NodeMul, top, b.add(api.NodePow, ten, many))
+	shifted := b.add(api.NodeMul, top, b.number(base))
 	return b.add(api.NodeAdd, shifted, b.number(low))
 }
 
