@@ -299,3 +299,69 @@ func TestRational(t *testing.T) {
 	}
 	_ = ppoly.Deg
 }
+
+// Both ways of going over choices tell the same ones.
+func TestMeeting(t *testing.T) {
+	r := rand.New(rand.NewSource(6))
+	told := 0
+	for range 60 {
+		f := poly(1)
+		for zpoly.Deg(f) < 9 {
+			f = zpoly.Mul(f, poly(r.Intn(19)-9, r.Intn(9)-4, 1))
+		}
+		p := uint32(101)
+		for {
+			if _, ok := howMany(f, p); ok || p > 1000 {
+				break
+			}
+			p = nextPrime(p)
+		}
+		if p > 1000 {
+			continue
+		}
+		l := monicFactors(f, p)
+		k, _ := hensel.Need(f, p)
+		lift, _ := hensel.Up(f, l, k)
+		x := newPool(f, lift)
+		for from := range 2 {
+			var a, b []uint64
+			for c := range x.all(from) {
+				a = append(a, c)
+			}
+			for c := range x.meeting(from) {
+				b = append(b, c)
+			}
+			slices.Sort(a)
+			slices.Sort(b)
+			if x.slack < 1<<62 && !slices.Equal(a, b) {
+				t.Fatal(f, p, from, a, b)
+			}
+			told += len(b)
+		}
+		for range x.meeting(0) {
+			break
+		}
+	}
+	if told == 0 {
+		t.Error("none")
+	}
+}
+
+// The cyclotomic polynomial of 41 splits into forty factors over 83, but no choice of them divides.
+func TestFortyFactors(t *testing.T) {
+	f := make(api.ZPoly, 41)
+	for i := range f {
+		f[i] = whole.Of(1)
+	}
+	k, _ := hensel.Need(f, 83)
+	w := paper(f, 83, k)
+	if len(w.Mod) != 40 || !Irreducible(w) {
+		t.Error(len(w.Mod))
+	}
+	// x^40 - 1 has forty factors over 41, too, but is a product.
+	g := zpoly.Sub(zpoly.Mono(whole.Of(1), 40), poly(1))
+	k, _ = hensel.Need(g, 41)
+	if w := paper(g, 41, k); len(w.Mod) != 40 || Irreducible(w) {
+		t.Error("a product")
+	}
+}
