@@ -38,7 +38,7 @@ func TestByHand(t *testing.T) {
 	for s, want := range map[string]api.Errno{
 		"(gcdint (4 6) 2 (-1 1))": api.OK, "(gcdint (4 6) 4 (1 0))": api.ErrWitness, "(gcdint (4 6) 1 (-1 1))": api.ErrWitness, "(gcdint 4 2 (-1 1))": api.ErrArg, "(gcdint (4 6 8) 2 (-1 1))": api.ErrArg, "(gcdint (4 yes) 2 (-1 1))": api.ErrArg, "(gcdint (4 6) 2 ())": api.ErrArg, "(gcdint (0 0) 0 (5 7))": api.OK, "(gcdint (4 6) -2 (1 -1))": api.ErrWitness,
 		"(nosuch () () ())": api.ErrName, "(gcdin (4 6) 2 (-1 1))": api.ErrName,
-		"(prime 7 yes ((3 2 (2) (1)) (7 3 (2 3) (1 1))))": api.OK, "(prime 7 no ((3 2 (2) (1)) (7 3 (2 3) (1 1))))": api.ErrArg, "(prime 2 yes ())": api.OK, "(prime 9 yes ((9 2 (2) (3))))": api.ErrWitness, "(prime 18446744073709551616 yes ())": api.ErrArg, "(prime 18446744073709551615 yes ())": api.ErrWitness, "(prime -2 yes ())": api.ErrArg, "(prime 1 yes ())": api.ErrWitness, "(prime 7 yes ((7 3 (2 3) (1))))": api.ErrWitness, "(prime 3 yes ((3 2 (2))))": api.ErrArg, "(prime 3 yes 3)": api.ErrArg, "(prime 3 yes ((3 2 (2) (4611686018427387905))))": api.ErrArg,
+		"(prime 7 yes ((3 2 (2) (1)) (7 3 (2 3) (1 1))))": api.OK, "(prime 7 no ((3 2 (2) (1)) (7 3 (2 3) (1 1))))": api.ErrArg, "(prime 2 yes ())": api.OK, "(prime 9 yes ((9 2 (2) (3))))": api.ErrWitness, "(prime 18446744073709551616 yes ())": api.ErrArg, "(prime 18446744073709551615 yes ())": api.ErrArg, "(prime -2 yes ())": api.ErrArg, "(prime 1 yes ())": api.ErrArg, "(prime 7 yes ((7 3 (2 3) (1))))": api.ErrWitness, "(prime 3 yes ((3 2 (2))))": api.ErrArg, "(prime 3 yes 3)": api.ErrArg, "(prime 3 yes ((3 2 (2) (4611686018427387905))))": api.ErrArg,
 		"(gcd ((-4 0 4) (6 6)) (2 2) ((-2 2) (3) 5 (5 ()) (5 (2))))": api.OK, "(gcd ((-4 0 4) (6 6)) (1 1) ((-2 2) (3) 5 (5 ()) (5 (2))))": api.ErrWitness, "(gcd (() ()) () (() () 2 (2 ()) (2 ())))": api.OK, "(gcd (() ()) () (() () 3 (2 ()) (2 ())))": api.ErrArg, "(gcd (() ()) () (() () 4 (4 ()) (4 ())))": api.ErrArg, "(gcd (() ()) () (() () 2 (2 ()) (3 ())))": api.ErrArg, "(gcd (() ()) () (() () 2 (3 ()) (2 ())))": api.ErrArg, "(gcd (() ()) (1) (() () 2 (2 ()) (2 ())))": api.ErrWitness, "(gcd ((0) ()) () (() () 2 (2 ()) (2 ())))": api.ErrArg,
 		"(factor (-6 2) (2 ((-3 1) 1)) (((-3 1) () (0 0 ()))))": api.OK, "(factor (-6 2) (2 ((-3 1) 1)) ())": api.ErrWitness, "(factor (-6 2) () (((-3 1) () (0 0 ()))))": api.ErrArg, "(factor (-6 2) (1 ((-6 2) 1)) (((-6 2) () (0 0 ()))))": api.ErrWitness, "(factor (9 6 1) (1 ((3 1) 2)) (((3 1) () (0 0 ()))))": api.OK, "(factor (9 6 1) (1 ((3 1) 1)) (((3 1) () (0 0 ()))))": api.ErrWitness, "(factor (9 6 1) (1 ((3 1) 2)) (((3 1) () (-1 0 ()))))": api.ErrArg, "(factor (9 6 1) (1 ((3 1) 2)) (((3 1) (0 0 ()))))": api.ErrArg,
 		"(factorp (5 (4 0 1)) (1 ((5 (1 1)) 1) ((5 (4 1)) 1)) (((5 (1 1))) ((5 (4 1)))))": api.OK, "(factorp (5 (4 0 1)) (1 ((5 (4 1)) 1) ((5 (1 1)) 1)) (((5 (4 1))) ((5 (1 1)))))": api.ErrWitness, "(factorp (5 (4 0 1)) (4294967296) ())": api.ErrArg, "(factorp (5 (4 0 1)) (1 ((5 (4 0 1)) 1)) (((5 (4 0 1)) ((5 (1)) (5 ()) (5 ())))))": api.ErrWitness,
@@ -103,6 +103,22 @@ func trees[T any](l []T, of func(T) api.Tree) api.Tree {
 		out = append(out, of(x))
 	}
 	return paper.List(out...)
+}
+
+// P38.1: the question of prime has a form of its own, narrower than that of the numbers in its steps.
+func TestPrimeForms(t *testing.T) {
+	for s, want := range map[string]api.Errno{
+		"(prime -1 yes ())": api.ErrArg, "(prime 0 yes ())": api.ErrArg, "(prime 1 yes ())": api.ErrArg, "(prime 2 yes ())": api.OK, "(prime 4 yes ())": api.ErrWitness,
+		"(prime 9223372036854775807 yes ())": api.ErrWitness, "(prime 9223372036854775808 yes ())": api.ErrArg, "(prime 18446744073709551615 yes ())": api.ErrArg, "(prime 18446744073709551616 yes ())": api.ErrArg, "(prime x yes ())": api.ErrArg, "(prime (2) yes ())": api.ErrArg,
+		"(prime 1 yes ((1 1 () ())))": api.ErrArg, "(prime 9223372036854775808 yes ((9223372036854775808 1 () ())))": api.ErrArg,
+		"(prime 3 yes ((0 2 (2) (1))))": api.ErrWitness, "(prime 3 yes ((1 2 (2) (1))))": api.ErrWitness, "(prime 3 yes ((18446744073709551615 2 (2) (1)) (3 2 (2) (1))))": api.ErrWitness, "(prime 3 yes ((18446744073709551616 2 (2) (1)) (3 2 (2) (1))))": api.ErrArg, "(prime 3 yes ((-3 2 (2) (1))))": api.ErrArg,
+		"(prime 3 yes ((3 0 (2) (1))))": api.ErrWitness, "(prime 3 yes ((3 18446744073709551615 (2) (1))))": api.ErrWitness, "(prime 3 yes ((3 18446744073709551616 (2) (1))))": api.ErrArg, "(prime 3 yes ((3 -1 (2) (1))))": api.ErrArg,
+		"(prime 3 yes ((3 2 (0) (1))))": api.ErrWitness, "(prime 3 yes ((3 2 (18446744073709551615) (1))))": api.ErrWitness, "(prime 3 yes ((3 2 (18446744073709551616) (1))))": api.ErrArg, "(prime 3 yes ((3 2 (2) (0))))": api.ErrWitness, "(prime 3 yes ((3 2 (2) (1))))": api.OK,
+	} {
+		if got := verdict(t, s); got != want {
+			t.Error(s, got, want)
+		}
+	}
 }
 
 // Witnesses that the layers give are accepted; with another answer they are not.

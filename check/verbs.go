@@ -25,7 +25,7 @@ func (x *taker) gcdint(p api.Paper) func() bool {
 }
 
 func (x *taker) prime(p api.Paper) func() bool {
-	n := x.word64(p.Question)
+	n := x.candidate(p.Question)
 	x.word(p.Answer, "yes")
 	steps := each(x, func(t api.Tree) api.PrattStep {
 		l := x.fixed(t, 4)
